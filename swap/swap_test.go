@@ -303,7 +303,7 @@ func TestText(t *testing.T) {
 	}
 }
 
-// P13.1 and P13.2: what a part has beside what its kind asks for is neither written nor expanded.
+// P13.1 and P13.2: what a part has beside what its kind asks for is neither written nor expanded; the same it isn't.
 func TestBeside(t *testing.T) {
 	l := []api.Part{{Kind: api.PText, Group: 3, B: []byte("a&")}, {Kind: api.PGroup, Group: 2, B: []byte("xyz")}, {Kind: api.PText, Group: -7, B: []byte("\n")}, {Kind: api.PGroup, B: []byte(`\`)}}
 	written(t, l)
@@ -315,6 +315,7 @@ func TestBeside(t *testing.T) {
 		t.Errorf("Replace: %q", got)
 	}
 	same(t, l, clone(l), true)
+	same(t, l, meant(l), false)
 	for _, g := range []int{-1, 10} {
 		wrong := []api.Part{{Kind: api.PGroup, Group: g, B: []byte("xyz")}, {Kind: 2, Group: 1, B: []byte("xyz")}, {Kind: -1, Group: 1, B: []byte("xyz")}}
 		if got := expands(t, wrong, "123", hit); got != "" {
@@ -677,10 +678,20 @@ func TestSame(t *testing.T) {
 		{[]api.Part{{Kind: 2}}, []api.Part{{Kind: 3}}, false},
 		{[]api.Part{{Kind: 2, B: []byte("a")}}, []api.Part{a}, false},
 		{[]api.Part{{Kind: -1, Group: 1}}, []api.Part{g}, false},
-		// What stands beside plays no part in what differs.
 		{[]api.Part{{Kind: api.PText, Group: 1, B: []byte("a")}}, []api.Part{{Kind: api.PText, Group: 1, B: []byte("b")}}, false},
 		{[]api.Part{{Kind: api.PGroup, Group: 1, B: []byte("a")}}, []api.Part{{Kind: api.PGroup, Group: 2, B: []byte("a")}}, false},
 		{[]api.Part{{Kind: api.PText, Group: 1, B: []byte("a")}}, []api.Part{{Kind: api.PGroup, Group: 1, B: []byte("a")}}, false},
+		// What a part has beside what its kind asks for is the part's, too.
+		{[]api.Part{{Kind: api.PText, Group: 1, B: []byte("a")}}, []api.Part{a}, false},
+		{[]api.Part{{Kind: api.PText, Group: -1, B: []byte("a")}}, []api.Part{{Kind: api.PText, Group: 1, B: []byte("a")}}, false},
+		{[]api.Part{{Kind: api.PText, Group: 1, B: []byte("a")}}, []api.Part{{Kind: api.PText, Group: 1, B: []byte("a")}}, true},
+		{[]api.Part{{Kind: api.PGroup, Group: 1, B: []byte("a")}}, []api.Part{g}, false},
+		{[]api.Part{{Kind: api.PGroup, Group: 1, B: []byte("a")}}, []api.Part{{Kind: api.PGroup, Group: 1, B: []byte("b")}}, false},
+		{[]api.Part{{Kind: api.PGroup, Group: 1, B: []byte("a")}}, []api.Part{{Kind: api.PGroup, Group: 1, B: []byte("a")}}, true},
+		{[]api.Part{{Kind: api.PGroup, B: []byte("\x00")}}, []api.Part{groupPart(0)}, false},
+		{[]api.Part{{Kind: 2, Group: 1, B: []byte("a")}}, []api.Part{{Kind: 2, Group: 1}}, false},
+		{[]api.Part{{Kind: 2, Group: 1, B: []byte("a")}}, []api.Part{{Kind: 2, Group: 2, B: []byte("a")}}, false},
+		{[]api.Part{{Kind: 2, Group: 1, B: []byte("a")}}, []api.Part{{Kind: 2, Group: 1, B: []byte("a")}}, true},
 	} {
 		same(t, x.one, x.two, x.want)
 		same(t, clone(x.one), clone(x.two), x.want)
@@ -694,6 +705,54 @@ func TestSame(t *testing.T) {
 		for _, n := range ends {
 			same(t, []api.Part{groupPart(m)}, []api.Part{groupPart(n)}, m == n)
 		}
+	}
+}
+
+// variedParts are parts of each kind, and of none, with each of a few groups, and each of a few rows of bytes.
+func variedParts() []api.Part {
+	var all []api.Part
+	for _, kind := range []int{api.PText, api.PGroup, 2, -1, 257} {
+		for _, g := range []int{0, 1, 2, 9, 10, -1, 256, 1 << 32} {
+			for _, b := range [][]byte{nil, {}, {0}, []byte("a"), []byte("b"), []byte("ab"), []byte("\xff")} {
+				all = append(all, api.Part{Kind: kind, Group: g, B: b})
+			}
+		}
+	}
+	return all
+}
+
+// P13.2: parts that differ in the kind alone, in the group alone, in the bytes alone, in any of these, aren't the same, whatever their kinds ask for; alone, among others, and twice.
+func TestSameInAll(t *testing.T) {
+	for _, p := range variedParts() {
+		for _, q := range variedParts() {
+			want := p.Kind == q.Kind && p.Group == q.Group && string(p.B) == string(q.B)
+			same(t, []api.Part{p}, []api.Part{q}, want)
+			same(t, []api.Part{p, textPart("a")}, []api.Part{q, textPart("a")}, want)
+			same(t, []api.Part{groupPart(2), p}, []api.Part{groupPart(2), q}, want)
+			same(t, []api.Part{groupPart(1), p, textPart("a")}, []api.Part{groupPart(1), q, textPart("a")}, want)
+			same(t, []api.Part{p, q}, []api.Part{q, p}, want)
+			same(t, []api.Part{p, p}, []api.Part{p, q}, want)
+		}
+	}
+}
+
+// P13.2: lists of a few parts, of which one differs in one thing, or none does.
+func TestSameLists(t *testing.T) {
+	x, all := numbers(42), variedParts()
+	for range 20000 {
+		var l []api.Part
+		for range 1 + x.Intn(5) {
+			l = append(l, all[x.Intn(len(all))])
+		}
+		same(t, l, clone(l), true)
+		other := clone(l)
+		p := &other[x.Intn(len(other))]
+		[]func(){
+			func() { p.Kind += 1 + x.Intn(3) },
+			func() { p.Group += 1 + x.Intn(3) },
+			func() { p.B = append(p.B, byte(x.Intn(256))) },
+		}[x.Intn(3)]()
+		same(t, l, other, false)
 	}
 }
 
